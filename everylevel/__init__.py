@@ -1,0 +1,1 @@
+"""Everylevel: levels of types for all whole numbers."""
