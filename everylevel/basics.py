@@ -16,9 +16,14 @@ SIGNS = ("max(", "imax(", " + ", ", ", ")")
 RELATIONS = ("<=", "<", "=")
 
 
+def is_whole(thing):
+    """Whether any value is an integer, not a bool."""
+    return isinstance(thing, int) and not isinstance(thing, bool)
+
+
 def is_number(thing):
     """Whether any value is an integer from 0 on."""
-    return isinstance(thing, int) and not isinstance(thing, bool) and thing >= 0
+    return is_whole(thing) and thing >= 0
 
 
 def is_sequence(thing):
@@ -126,6 +131,14 @@ def read_level(level):
     """The steps of a level; `InvalidLevel` for any other value."""
     steps = steps_of(level)
     if steps is None:
+        raise InvalidLevel()
+    return steps
+
+
+def read_within(level, names):
+    """The steps of a level without other names than these; `InvalidLevel` for any other value."""
+    steps = read_level(level)
+    if not all([name in names for name in names_in(steps)]):
         raise InvalidLevel()
     return steps
 

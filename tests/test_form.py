@@ -26,6 +26,16 @@ INTERFACE = {
         "Book.but": ["at"], "Book.broken": ["numbers"], "Book.keeps": ["numbers"], "Book.read": ["text"],
         "Book.__len__": [], "Book.__eq__": ["other"], "Book.__str__": [],
     },
+    "solutions": {
+        "can_be": ["book"], "some_numbers": ["book"], "highest": ["book", "tops"], "lowest": ["book"],
+        "span": ["book", "name"],
+    },
+    "following": {
+        "follows": ["book", "demand"], "counter": ["book", "demand"], "excess": ["book", "level", "other"],
+        "no_wider": ["one", "other"], "unlike": ["one", "other"], "denials": ["demand"],
+    },
+    "papers": {"bounds": ["book", "zeros"], "paper": ["book"], "paper_holds": ["book", "value"]},
+    "leaving": {"without": ["book", "names"], "joined": ["one", "other"], "between": ["one", "other"]},
 }
 
 

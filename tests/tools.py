@@ -1,6 +1,7 @@
 """What several tests need: any values, wrong texts, and levels as trees to compare with."""
 
 import itertools
+import random
 
 from everylevel import errors
 from everylevel.books import Book
@@ -142,3 +143,76 @@ def all_numbers(names, most):
     """All dicts of numbers up to `most` for some names."""
     for row in itertools.product(range(most + 1), repeat=len(names)):
         yield dict(zip(names, row))
+
+
+def imax(low, high):
+    return 0 if high == 0 else max(low, high)
+
+
+def reckoned(names, text):
+    """What a level or a demand of these names says, as a function: Python itself reads its text."""
+    return eval(f"lambda {', '.join(names)}: {text.replace(' = ', ' == ')}", {"imax": imax, "max": max})
+
+
+def tried(book, most):
+    """All numbers up to `most` that keep a book, found by trying."""
+    demands = [f"({demand})" for demand in book.demands] + ["True"]
+    keeps = reckoned(book.names, " and ".join(demands))
+    return [row for row in itertools.product(range(most + 1), repeat=len(book.names)) if keeps(*row)]
+
+
+def drawn_level(chance, names, plain):
+    words = ("+", "max") if plain else ("+", "max", "imax")
+    return text_of(tree(chance, names, chance.choice((0, 1, 1, 2)), words))
+
+
+def drawn_demand(chance, names, plain):
+    low, high = drawn_level(chance, names, plain), drawn_level(chance, names, plain)
+    return f"{low} {chance.choice(('<=', '<=', '<', '='))} {high}"
+
+
+def drawn_bound(chance, names):
+    """A demand that bounds one name or a number by the greatest of two."""
+    def atom(name, most):
+        number = chance.randrange(most + 1)
+        return str(number) if name == "" else f"{name} + {number}" if number > 0 else name
+    left, *right = chance.choice([*names, ""]), *chance.sample([*names, ""], 2)
+    return f"{atom(left, 2)} {chance.choice(('<=', '<'))} max({', '.join([atom(name, 2) for name in right])})"
+
+
+def drawn_book(chance, names, plain=False, most=4):
+    """A small book: of any levels, or (a plain one) of bounds that hang on one another."""
+    many = chance.randrange(most + 1)
+    if plain and chance.random() < 0.6:
+        return Book(list(names), [drawn_bound(chance, names) for _ in range(many + 2)])
+    return Book(list(names), [drawn_demand(chance, names, plain) for _ in range(many)])
+
+
+def small_books(seed, many, groups=("u", "uv", "vu", "uvw"), plain=None, most=4000):
+    """Books, and all their numbers up to their reach; as many with imax as without, if plain is None."""
+    chance = random.Random(seed)
+    found = 0
+    while found < many:
+        is_plain = chance.random() < 0.5 if plain is None else plain
+        book = drawn_book(chance, chance.choice(groups), is_plain)
+        if (book.reach + 1) ** len(book.names) <= most:
+            found += 1
+            yield book, tried(book, book.reach)
+
+
+# Books at the limits: so many names and demands, parts and depth.
+WIDE_BOOKS = [
+    "names u v w x y\nmax(u + 7, v + 3, w, x) <= max(v + 5, w + 1, max(x, y + 4), 7)\n"
+    "v + 2 < max(u, w + 6)\nw + 5 <= max(max(u + 1, v), max(x, y), 6)\nmax(x + 3, 4) <= max(u, v + 7)\n"
+    "y + 1 = max(u + 2, v, w)\nmax(u, v) <= max(w + 6, max(x, y + 1))\n"
+    "max(max(u + 1, v + 2), max(w + 3, x + 4)) <= max(max(y + 4, x + 5), max(w + 4, v + 3))\nx <= max(y + 3, w)",
+    "names u v w x y\nu + 7 <= max(v, w)\nv + 7 <= max(w, x)\nw + 7 <= max(x, y)\nx + 7 <= max(y, u)\n"
+    "y + 7 <= max(u, v)\nu <= v + 6\nv <= w + 5\nw <= x + 4",
+    "names u v w x y\nu + 7 <= max(v, w)\nv + 7 <= max(w, x)\nw + 7 <= max(x, y)\nx + 7 <= max(y, u)\n"
+    "y <= max(u + 7, v + 7, w + 7, x + 7)\nu <= v + 6\nv <= w + 5\nw <= x + 4",
+    "names u v w x\nimax(u + 8, imax(v, w)) <= max(x, imax(w + 3, u))\nmax(u, v) < imax(x + 2, max(v, imax(u, w)))\n"
+    "imax(imax(u, v), imax(w, x)) <= imax(imax(x, w), imax(v, u)) + 5\nv + 9 <= max(w, x)\n"
+    "imax(u, x) <= max(v + 4, w)\nw <= imax(u, v) + 9\nx <= max(u + 9, v + 9)\n1 <= max(u, imax(v, w))",
+    "names u v w x\nimax(u + 1, v) < w\nimax(v + 1, w) < x\nimax(w + 1, x) < u\nimax(x + 1, u) < v\n"
+    "1 <= u\n1 <= v\n1 <= w\n1 <= x",
+]
