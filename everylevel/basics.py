@@ -109,14 +109,15 @@ def _leaf(token, wanted):
     """The step that a single word makes where a level or a number is wanted, or None."""
     if wanted == "level" and is_name(token):
         return ("name", token)
-    if wanted == "level" and _is_numeral(token):
+    if wanted == "level" and is_numeral(token):
         return ("number", int(token))
-    if wanted == "number" and _is_numeral(token):
+    if wanted == "number" and is_numeral(token):
         return ("+", int(token))
     return None
 
 
-def _is_numeral(word):
+def is_numeral(word):
+    """Whether a string is a number in at most 4 decimal digits without leading zeros."""
     if not word.isascii() or not word.isdigit():
         return False
     return len(word) <= 4 and (word == "0" or word[0] != "0")
@@ -135,10 +136,18 @@ def read_level(level):
     return steps
 
 
+def steps_within(thing, names):
+    """The steps of a level without other names than these, or None for any other value."""
+    steps = steps_of(thing)
+    if steps is None or not all([name in names for name in names_in(steps)]):
+        return None
+    return steps
+
+
 def read_within(level, names):
     """The steps of a level without other names than these; `InvalidLevel` for any other value."""
-    steps = read_level(level)
-    if not all([name in names for name in names_in(steps)]):
+    steps = steps_within(level, names)
+    if steps is None:
         raise InvalidLevel()
     return steps
 

@@ -12,11 +12,17 @@ def without(book, names):
         if name not in book.names:
             raise NoName(name)
     others = [name for name in book.names if name not in names]
-    if len(others) == len(book.names):
-        return book
+    return book if len(others) == len(book.names) else narrowed(book, others)
+
+
+def narrowed(book, others):
+    """A plain book of some of the names, kept exactly if there are numbers for the rest, too.
+
+    Each of its demands bounds one name or number, with `<=`, and none follows from the others.
+    """
     if not can_be(book):
         return Book(others, ["1 <= 0"])
-    out = [name for name in book.names if name in names]
+    out = [name for name in book.names if name not in others]
     return Book(others, [_demand_of(row) for row in leave_out(rows_of(book.parts), out, others)])
 
 

@@ -52,13 +52,14 @@ def _is_above(x, right, row):
 def leave_out(rows, names, others):
     """Rows of the other names that are kept exactly if there are numbers for these names, too.
 
-    Some numbers keep the rows that are passed.
+    Some numbers keep the rows that are passed. None of those that are returned follows from the others.
     """
     left = list(names)
+    rows = _needed(rows, [*left, *others])
     while left:
         _, name = min([(_pairs_with(rows, x), x) for x in left])
         left.remove(name)
-        rows = _needed(_tidy(_without(rows, name)), left + others)
+        rows = _needed(_tidy(_without(rows, name)), [*left, *others])
     return rows
 
 

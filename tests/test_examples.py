@@ -56,6 +56,29 @@ Section 8.
 >>> upper, lower = Book.read("names u x\nu + 2 <= x\nx <= 4"), Book.read("names u y\n3 <= max(u, y)\ny < 2")
 >>> [between(upper, lower).keeps([number]) for number in (2, 3)], between(book, wrong.but(1))
 ([True, False], None)
+
+Section 9.
+
+>>> from everylevel.clashes import least_clashes, needless, struck
+>>> three = Book.read("names u v\nu < v\nv < u\nv <= u\nu <= 9")
+>>> least_clashes(three), struck(three), needless(Book.read("names u v\nu < v\nu <= v\nu + 1 <= max(u, v)"))
+(((0, 1), (0, 2)), (0,), (0, 1, 2))
+
+Section 10.
+
+>>> from everylevel.definitions import Definition, Library
+>>> pair = Definition("pair", ["u", "v"], ["x"], ["u < x", "x <= v"])
+>>> twice = Definition("tw", ["u"], ["y"], ["y <= 5"], [("pair", ["u", "y"]), ("pair", ["y", "6"])])
+>>> library = Library([pair, twice])
+>>> [library.lets("tw", [number]) for number in (4, 5)], library.face("pair").keeps([1, 2]), library.fits("pair", book, ["u", "w"]), library.stuck()
+([True, False], True, True, ())
+
+Section 12.
+
+>>> from everylevel.desk import Desk
+>>> desk = Desk()
+>>> [desk.say(word) for word in ("names u v", "demand 2 <= max(u, v)", "demand u <= 1", "follows 2 <= v", "span v", "span u", "lowest", "drop 1", "undo")]
+['2', 'new', 'new', 'yes', '2 any', '0 1', '0 2', '1', 'undone']
 """
 
 import doctest
@@ -68,12 +91,12 @@ class Examples(unittest.TestCase):
     def test_examples(self):
         result = doctest.testmod(sys.modules[__name__])
         self.assertEqual(result.failed, 0)
-        self.assertGreaterEqual(result.attempted, 25)
+        self.assertGreaterEqual(result.attempted, 36)
 
     def test_examples_of_the_readme(self):
         result = doctest.testfile("../README.md")
         self.assertEqual(result.failed, 0)
-        self.assertGreaterEqual(result.attempted, 20)
+        self.assertGreaterEqual(result.attempted, 35)
 
 
 if __name__ == "__main__":

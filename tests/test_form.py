@@ -1,4 +1,4 @@
-"""The interface of the modules that are there, and the form of their files."""
+"""The interface of the modules, and the form of their files."""
 
 import ast
 import pathlib
@@ -36,6 +36,17 @@ INTERFACE = {
     },
     "papers": {"bounds": ["book", "zeros"], "paper": ["book"], "paper_holds": ["book", "value"]},
     "leaving": {"without": ["book", "names"], "joined": ["one", "other"], "between": ["one", "other"]},
+    "clashes": {"least_clashes": ["book"], "struck": ["book"], "needless": ["book"]},
+    "definitions": {
+        "Definition": ["name", "params", "inner", "demands", "calls"], "Definition.__eq__": ["other"],
+        "Library": ["definitions"], "Library.lets": ["name", "numbers"], "Library.face": ["name"],
+        "Library.fits": ["name", "book", "levels"], "Library.stuck": [], "Library.__len__": [],
+    },
+    "live": {
+        "Live": ["names"], "Live.book": [], "Live.demand": ["demand"], "Live.drop": ["at"], "Live.undo": [],
+        "Live.within": ["work"], "Live.__len__": [],
+    },
+    "desk": {"Desk": [], "Desk.say": ["command"]},
 }
 
 
