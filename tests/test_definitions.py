@@ -83,7 +83,8 @@ def drawn_library(chance, many, names=2, inner=2, demands=3, calls=2, most=2):
     """Definitions, each with calls of those ahead of it."""
     found = []
     for at in range(many):
-        params = list("uvw")[:chance.randrange(1, names + 1)]
+        many_params = chance.randrange(1, names + 1)
+        params = chance.sample("uvw"[:many_params], many_params)
         own = list("xy")[:chance.randrange(inner + 1)]
         both = params + own
         written = [drawn_bound(chance, both) if len(both) > 1 and chance.random() < 0.7
@@ -314,6 +315,18 @@ class Lets(unittest.TestCase):
         # u + 1 < x and x < max(v, 3)
         for v, u in itertools.product(range(7), repeat=2):
             self.assertIs(library.lets("turn", [v, u]), u + 2 < max(v, 3), (v, u))
+
+    def test_levels_are_those_of_the_parameters_in_their_order(self):
+        less = Definition("less", ["w", "u", "v"], ["x"], ["w < x", "x <= u", "v = 3"])
+        calls = Definition("top", ["v", "u"], [], [], [("less", ["v", "u + 1", "3"])])
+        library = Library([less, calls])
+        for v, u in itertools.product(range(4), repeat=2):
+            self.assertIs(library.lets("top", [v, u]), v <= u)
+        book = Book(["v", "u"], ["v <= u"])
+        self.assertTrue(library.fits("top", book, ["v", "u"]))
+        self.assertFalse(library.fits("top", book, ["u", "v"]))
+        self.assertTrue(library.fits("less", book, ["v", "u + 1", "3"]))
+        self.assertFalse(library.fits("less", book, ["u + 1", "3", "v"]))
 
     def test_three_deep(self):
         one = Definition("one", ["u", "v"], ["x"], ["u < x", "x < v"])
